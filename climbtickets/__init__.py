@@ -1,0 +1,1 @@
+"""Tickets up and down, and free climbs."""
