@@ -113,7 +113,7 @@ class Desk:
 
     @property
     def excess(self):
-        numbers = [surplus_across(self._tickets, gap) for gap in range(Profile.GAPS)]
+        numbers = surplus_by_gap(self._tickets)
         return Profile(*numbers)
 
     @property
@@ -188,11 +188,20 @@ def is_pair_of_heights(value):
     return isinstance(value, tuple) and len(value) == 2 and is_height(value[0]) and is_height(value[1])
 
 
-def surplus_across(tickets, gap):
-    """How many more tickets go up across the gap than down across it."""
-    up = [ticket for ticket in tickets if ticket.x <= gap < ticket.y]
-    down = [ticket for ticket in tickets if ticket.y <= gap < ticket.x]
-    return len(up) - len(down)
+def surplus_by_gap(tickets):
+    """For each gap how many more tickets go up across it than down across it."""
+    # A ticket counts for the gaps above its x and against those above its y:
+    # for the gaps that it does not cross, both cancel each other.
+    changes = [0 for _ in range(Profile.GAPS + 1)]
+    for ticket in tickets:
+        changes[ticket.x] = changes[ticket.x] + 1
+        changes[ticket.y] = changes[ticket.y] - 1
+    surplus = []
+    total = 0
+    for gap in range(Profile.GAPS):
+        total = total + changes[gap]
+        surplus.append(total)
+    return surplus
 
 
 def heights_of_ends(tickets):

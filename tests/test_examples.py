@@ -18,6 +18,48 @@ DESKS = """
 ((0, 0, -1, 0, 0), True, 2, True)
 """
 
+WALKERS = """
+>>> from climbtickets.desks import Desk
+>>> from climbtickets.walkers import Planner, fewest, reason_for
+>>> desk = Desk.of_pairs((0, 5), (3, 2))
+>>> fewest(desk), reason_for(desk)[0], len(Planner()(desk)), fewest(Desk.of_pairs((0, 5), (5, 0), (3, 2)))
+(2, 'island', 2, 1)
+"""
+
+ENDS = """
+>>> from climbtickets.desks import Desk
+>>> from climbtickets.ends import EndsPlanner, RoundPlanner, reason_against
+>>> desk = Desk.of_pairs((2, 0), (1, 3))
+>>> EndsPlanner(2, 3).effort(desk), EndsPlanner(0, 3).effort(desk), reason_against(desk, 2, 2), len(RoundPlanner()(Desk.of_pairs((0, 5), (5, 0), (3, 2))))
+(1, 3, ('gap', 2), 2)
+"""
+
+GROUPS = """
+>>> from climbtickets.desks import Desk
+>>> from climbtickets.groups import group_reason, group_trips
+>>> desk = Desk.of_pairs((0, 5), (3, 2))
+>>> trips = group_trips(desk, (0, 3), (2, 5))
+>>> [trip.end for trip in trips], trips[1].climbed, group_reason(desk, (0, 3), (5, 2)), group_reason(desk, (0,), (5,))[0], group_reason(desk, (3,), (2,))[0]
+([5, 2], 0, None, 'part', 'gap')
+"""
+
+TRIPS = """
+>>> from climbtickets.groups import Trip
+>>> from climbtickets.tickets import Row, Ticket
+>>> first = Trip(1, Row(Ticket(2, 4)), 5)
+>>> both = first + Trip(5, Row(Ticket(6, 0)), 0)
+>>> both.climbed, len(both), both.end, Ticket(6, 0) in both, first < both, bool(Trip(0, Row(), 3))
+(3, 2, 0, True, True, False)
+"""
+
+LISTING = """
+>>> from climbtickets.desks import Desk
+>>> from climbtickets.listing import count_rows, least_climb, rank_of_row, row_by_rank
+>>> desk = Desk.of_pairs((0, 2), (2, 0), (1, 1))
+>>> count_rows(desk), row_by_rank(desk, 0)[1].x, rank_of_row(desk, row_by_rank(desk, 1)), least_climb(desk)[0]
+(2, 2, 1, 1)
+"""
+
 
 def failures_of(text):
     """How many examples of the text were tried, and what did not come out as it says."""
@@ -33,6 +75,21 @@ class ExamplesTest(unittest.TestCase):
 
     def test_desks(self):
         self.assertEqual(failures_of(DESKS), (4, ""))
+
+    def test_walkers(self):
+        self.assertEqual(failures_of(WALKERS), (4, ""))
+
+    def test_ends(self):
+        self.assertEqual(failures_of(ENDS), (4, ""))
+
+    def test_groups(self):
+        self.assertEqual(failures_of(GROUPS), (5, ""))
+
+    def test_trips(self):
+        self.assertEqual(failures_of(TRIPS), (5, ""))
+
+    def test_listing(self):
+        self.assertEqual(failures_of(LISTING), (4, ""))
 
 
 if __name__ == "__main__":

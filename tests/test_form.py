@@ -152,6 +152,66 @@ class FormTest(unittest.TestCase):
                 wrong.append(place(name, node))
         self.assert_none(wrong)
 
+    def test_no_imports_in_a_circle(self):
+        imports = {path.stem: set() for path in package_files()}
+        for name, node in trees():
+            if isinstance(node, ast.ImportFrom):
+                imports[name.removesuffix(".py")].add(node.module.removeprefix("climbtickets."))
+        while imports:
+            free = [name for name in imports if not imports[name] & set(imports)]
+            self.assertNotEqual(free, [])
+            for name in free:
+                del imports[name]
+
+    def test_names_are_imported_from_the_file_that_defines_them(self):
+        defined = {(name, node.name) for name, node in trees() if isinstance(node, (ast.FunctionDef, ast.ClassDef))}
+        wrong = []
+        for name, node in trees():
+            if isinstance(node, ast.ImportFrom):
+                file = node.module.removeprefix("climbtickets.") + ".py"
+                wrong += [place(name, node) for each in node.names if (file, each.name) not in defined]
+        self.assert_none(wrong)
+
+    def test_no_variable_has_the_name_of_a_class_or_an_import_of_its_file(self):
+        taken = {(name, node.name) for name, node in trees() if isinstance(node, ast.ClassDef)}
+        taken |= {(name, each.name) for name, node in trees() if isinstance(node, ast.ImportFrom) for each in node.names}
+        wrong = [place(name, node) for name, node in trees() if isinstance(node, ast.arg) and (name, node.arg) in taken]
+        wrong += [place(name, node) for name, node in trees()
+                  if isinstance(node, ast.Name) and isinstance(node.ctx, ast.Store) and (name, node.id) in taken]
+        self.assert_none(wrong)
+
+    def test_only_names_behind_a_star(self):
+        wrong = []
+        for name, node in trees():
+            if isinstance(node, ast.Call):
+                wrong += [place(name, node) for each in node.args
+                          if isinstance(each, ast.Starred) and not isinstance(each.value, ast.Name)]
+        self.assert_none(wrong)
+
+    def test_generators_are_iterated_at_once(self):
+        # Each call of a generator stands after `in` of a `for`, in `list` or `enumerate`, or behind `yield from`.
+        own = {node.name for _, node in functions() if any(isinstance(each, (ast.Yield, ast.YieldFrom))
+                                                           for each in ast.walk(node))}
+        self.assertIn("single_rows", own)
+        self.assertEqual(len([node for _, node in functions() if node.name in own]), len(own))
+        calls, iterated = [], []
+        for name, node in trees():
+            if isinstance(node, ast.Name) and node.id in own:
+                calls.append(place(name, node))
+            if isinstance(node, ast.Call) and ast.unparse(node.func) in ("list", "enumerate"):
+                inner = node.args
+            elif isinstance(node, ast.YieldFrom):
+                inner = [node.value]
+            elif isinstance(node, ast.For):
+                inner = [node.iter]
+            else:
+                inner = []
+            for each in inner:
+                if isinstance(each, ast.Call) and isinstance(each.func, ast.Name) and each.func.id in own:
+                    iterated.append(place(name, each))
+                    self.assertTrue(all(isinstance(one, (ast.Name, ast.Attribute, ast.Constant)) for one in each.args))
+        self.assertEqual(sorted(calls), sorted(iterated))
+
     def test_words(self):
         for path in package_files():
             self.assertIsNone(UNUSED_WORDS.search(path.read_text()))

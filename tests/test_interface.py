@@ -17,6 +17,16 @@ PROPERTIES = {
     "plans": {
         "Plan": ("desk", "rows", "climb"),
     },
+    "walkers": {
+        "Planner": ("walkers",),
+    },
+    "ends": {
+        "EndsPlanner": ("walkers",),
+        "RoundPlanner": ("walkers",),
+    },
+    "groups": {
+        "Trip": ("start", "row", "end", "climbed"),
+    },
 }
 
 METHODS = {
@@ -33,6 +43,16 @@ METHODS = {
     },
     "plans": {
         "Plan": ("__init__", "__len__", "__eq__", "__getitem__"),
+    },
+    "walkers": {
+        "Planner": ("__init__", "__call__"),
+    },
+    "ends": {
+        "EndsPlanner": ("__init__", "__call__", "effort"),
+        "RoundPlanner": ("__init__", "__call__"),
+    },
+    "groups": {
+        "Trip": ("__init__", "__len__", "__bool__", "__eq__", "__lt__", "__contains__", "__add__"),
     },
 }
 
@@ -56,6 +76,27 @@ SIGNATURES = {
     ("desks", "Desk"): "(*tickets)",
     ("plans", "Plan"): "(desk, *rows)",
     ("plans", "is_round"): "(row)",
+    ("walkers", "fewest"): "(desk)",
+    ("walkers", "reason_for"): "(desk)",
+    ("walkers", "check_reason"): "(desk, answer)",
+    ("walkers", "Planner"): "(*, walkers=None)",
+    ("ends", "reason_against"): "(desk, begin, end)",
+    ("ends", "check_reason_against"): "(desk, begin, end, answer)",
+    ("ends", "EndsPlanner"): "(begin, end)",
+    ("ends", "RoundPlanner"): "()",
+    ("groups", "Trip"): "(start, row, end)",
+    ("groups", "group_trips"): "(desk, starts, ends)",
+    ("groups", "group_reason"): "(desk, starts, ends)",
+    ("groups", "check_group_reason"): "(desk, starts, ends, answer)",
+    ("listing", "single_rows"): "(desk)",
+    ("listing", "count_rows"): "(desk)",
+    ("listing", "row_by_rank"): "(desk, rank)",
+    ("listing", "rank_of_row"): "(desk, row)",
+    ("listing", "least_climb"): "(desk)",
+    ("walkers", "Planner", "__call__"): "(self, desk)",
+    ("ends", "EndsPlanner", "__call__"): "(self, desk)",
+    ("ends", "EndsPlanner", "effort"): "(self, desk)",
+    ("ends", "RoundPlanner", "__call__"): "(self, desk)",
     ("tickets", "Ticket", "turned"): "(self)",
     ("tickets", "Row", "turned"): "(self)",
     ("tickets", "Row", "cut"): "(self, number)",
@@ -109,6 +150,19 @@ class InterfaceTest(unittest.TestCase):
         for key, expected in SIGNATURES.items():
             with self.subTest(key):
                 self.assertEqual(str(inspect.signature(found(*key))), expected)
+
+    def test_base_classes(self):
+        planner = found("walkers", "Planner")
+        self.assertEqual(planner.__bases__, (object,))
+        self.assertEqual(found("ends", "EndsPlanner").__bases__, (planner,))
+        self.assertEqual(found("ends", "RoundPlanner").__bases__, (planner,))
+        self.assertEqual(found("groups", "Trip").__bases__, (object,))
+
+    def test_module_values(self):
+        self.assertEqual(found("listing", "MAX_LISTED"), 7)
+
+    def test_single_rows_yields(self):
+        self.assertTrue(inspect.isgeneratorfunction(found("listing", "single_rows")))
 
     def test_objects_are_not_iterated_over(self):
         for module, name, member in members(METHODS):

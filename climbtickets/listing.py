@@ -1,0 +1,81 @@
+"""The single rows of a desk: all of them, their numbers, and the least climb."""
+
+from climbtickets.checks import is_position
+from climbtickets.ends import EndsPlanner, reason_against
+from climbtickets.errors import InvalidNumber, InvalidPlan, LimitExceeded, TooFew
+from climbtickets.tickets import Row, Ticket
+from climbtickets.walkers import fewest, reason_for
+
+MAX_LISTED = 7
+
+
+def single_rows(desk):
+    """All single rows in ascending order."""
+    if len(desk) > MAX_LISTED:
+        raise LimitExceeded(MAX_LISTED)
+    row = Row()
+    tickets = in_order(desk.tickets)
+    yield from rows_going_on(row, tickets)
+
+
+def in_order(tickets):
+    found = []
+    for ticket in tickets:
+        spot = len([each for each in found if each < ticket])
+        found.insert(spot, ticket)
+    return found
+
+
+def rows_going_on(row, tickets):
+    """The rows that go on from this one with all these tickets, which are in order."""
+    if not tickets:
+        yield row
+    for spot, ticket in enumerate(tickets):
+        is_new = spot == 0 or tickets[spot - 1] != ticket
+        if is_new and (not row or row.end <= ticket.x):
+            longer = row + ticket
+            others = tickets[:spot] + tickets[spot + 1:]
+            yield from rows_going_on(longer, others)
+
+
+def count_rows(desk):
+    """The number of single rows."""
+    rows = list(single_rows(desk))
+    return len(rows)
+
+
+def row_by_rank(desk, rank):
+    """The single row with this number."""
+    rows = list(single_rows(desk))
+    if not is_position(rank, len(rows)):
+        raise InvalidNumber(rank)
+    return rows[rank]
+
+
+def rank_of_row(desk, row):
+    """The number of this single row."""
+    for rank, each in enumerate(single_rows(desk)):
+        if each == row:
+            return rank
+    raise InvalidPlan("tickets")
+
+
+def least_climb(desk):
+    """A pair of the least climb of a single row and such a row."""
+    if fewest(desk) > 1:
+        raise TooFew(reason_for(desk))
+    begin, end = closest_ends(desk)
+    planner = EndsPlanner(begin, end)
+    row = planner(desk)
+    return (row.climb, row)
+
+
+def closest_ends(desk):
+    """The ends of one walker for all tickets that is to climb least, for a desk that has such ends."""
+    # All rows climb their end minus their beginning, and the same beside that. So one with
+    # the least climb is among the walkers whose end lies lowest, seen from their beginning.
+    for rise in range(-Ticket.MAX_HEIGHT, Ticket.MAX_HEIGHT + 1):
+        for begin in range(max(0, -rise), Ticket.MAX_HEIGHT + 1 - max(0, rise)):
+            if reason_against(desk, begin, begin + rise) is None:
+                return (begin, begin + rise)
+    return None
