@@ -1,9 +1,10 @@
 """The single rows of a desk: all of them, their numbers, and the least climb."""
 
 from climbtickets.checks import is_position
-from climbtickets.ends import EndsPlanner, reason_against
+from climbtickets.closest import closest_ends
+from climbtickets.ends import EndsPlanner
 from climbtickets.errors import InvalidNumber, InvalidPlan, LimitExceeded, TooFew
-from climbtickets.tickets import Row, Ticket
+from climbtickets.tickets import Row
 from climbtickets.walkers import fewest, reason_for
 
 MAX_LISTED = 7
@@ -64,18 +65,9 @@ def least_climb(desk):
     """A pair of the least climb of a single row and such a row."""
     if fewest(desk) > 1:
         raise TooFew(reason_for(desk))
+    if not desk:
+        return (0, Row())
     begin, end = closest_ends(desk)
     planner = EndsPlanner(begin, end)
     row = planner(desk)
     return (row.climb, row)
-
-
-def closest_ends(desk):
-    """The ends of one walker for all tickets that is to climb least, for a desk that has such ends."""
-    # All rows climb their end minus their beginning, and the same beside that. So one with
-    # the least climb is among the walkers whose end lies lowest, seen from their beginning.
-    for rise in range(-Ticket.MAX_HEIGHT, Ticket.MAX_HEIGHT + 1):
-        for begin in range(max(0, -rise), Ticket.MAX_HEIGHT + 1 - max(0, rise)):
-            if reason_against(desk, begin, begin + rise) is None:
-                return (begin, begin + rise)
-    return None

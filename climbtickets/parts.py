@@ -46,8 +46,13 @@ def marks_of_parts(desk, shut):
     ends = [(ticket.x, ticket.y) for ticket in desk.tickets]
     neighbors = [(gap, gap + 1) for gap in range(Profile.GAPS) if not shut[gap]]
     for one, other in ends + neighbors:
-        kept = marks[one]
-        dropped = marks[other]
-        if kept != dropped:
-            marks = [kept if mark == dropped else mark for mark in marks]
+        if marks[one] != marks[other]:
+            marks = joined(marks, one, other)
     return marks
+
+
+def joined(marks, one, other):
+    """The marks when these two share theirs."""
+    kept = marks[one]
+    dropped = marks[other]
+    return [kept if mark == dropped else mark for mark in marks]

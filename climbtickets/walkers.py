@@ -38,8 +38,9 @@ def full_gaps(desk):
 def island_of(desk, full):
     """An island as reason_for tells it, or None."""
     for part in parts_of(desk, full):
-        for gap in range(len(full)):
-            if full[gap] and surplus_by_gap(tickets_in(desk, part))[gap] <= 0:
+        surplus = surplus_by_gap(tickets_in(desk, part))
+        for gap, is_full in enumerate(full):
+            if is_full and surplus[gap] <= 0:
                 return ("island", gap, part)
     return None
 

@@ -19,6 +19,24 @@ from samples import HUGE, STRANGE
 SEVEN = [(9, height) for height in range(7)]
 
 
+# Desks whose single rows end far above their beginning.
+FAR_APART = [
+    [(0, 30)],
+    [(0, 30), (30, 0), (0, 30)],
+    [(0, 10), (10, 20), (20, 30)],
+    [(30, 0), (0, 30)] * 19 + [(0, 30)],
+    [(0, 5), (5, 0), (3, 2)],
+]
+
+# Desks of which each height is to be reached by itself.
+FLAT = [
+    [(height, height) for height in HEIGHTS],
+    [(height, height) for height in range(1, 30)] + [(30, 0)],
+    [(height, height) for height in range(1, 30)] + [(30, 0), (0, 30)],
+    [(height, height + 15) for height in range(16)] + [(height + 15, height) for height in range(16)],
+]
+
+
 def desk_of(pairs):
     return Desk.of_pairs(*pairs)
 
@@ -34,6 +52,11 @@ def small_desks_for_rows(seed, many):
     for _ in range(many):
         desks.append([(max(pair), min(pair)) for pair in small_desks(random.random(), 1)[-1]])
     return desks
+
+
+def least_difference(desk):
+    """The least end, seen from the begin, between which one walker can use all tickets."""
+    return min(end - begin for begin in HEIGHTS for end in HEIGHTS if reason_against(desk, begin, end) is None)
 
 
 class SingleRowsTest(unittest.TestCase):
@@ -231,7 +254,9 @@ class LeastClimbTest(unittest.TestCase):
     def test_large_desks(self):
         random = Random("least climb")
         found = 0
-        for pairs in large_desks("least climb", 60) + [balanced(random, 40) for _ in range(10)]:
+        lists = large_desks("least climb", 60) + [balanced(random, 40) for _ in range(10)] + FAR_APART + FLAT
+        lists += [balanced(random, random.randint(8, 40)) + [(0, 30)] for _ in range(10)]
+        for pairs in lists:
             with self.subTest(pairs):
                 desk = desk_of(pairs)
                 if fewest(desk) > 1:
@@ -240,10 +265,15 @@ class LeastClimbTest(unittest.TestCase):
                     found += 1
                     number = self.assert_pair(pairs, least_climb(desk))
                     # A row with a smaller climb would be one of a walker whose ends lie closer.
-                    closest = number + total_rise(pairs)
-                    self.assertFalse([(begin, end) for begin in HEIGHTS for end in HEIGHTS if end - begin < closest
-                                      and reason_against(desk, begin, end) is None])
-        self.assertGreater(found, 20)
+                    self.assertEqual(number + total_rise(pairs), least_difference(desk))
+        self.assertGreater(found, 40)
+
+    def test_many_calls_end_quickly(self):
+        desks = [desk_of(pairs) for pairs in FAR_APART + FLAT]
+        before = perf_counter()
+        for turn in range(1000):
+            least_climb(desks[turn % len(desks)])
+        self.assertLess(perf_counter() - before, 5)
 
     def test_upside_down(self):
         for pairs in small_desks_for_rows("turned climb", 40):
