@@ -60,6 +60,39 @@ LISTING = """
 (2, 2, 1, 1)
 """
 
+LIVE = """
+>>> from climbtickets.live import PlannedDesk
+>>> from climbtickets.tickets import Ticket
+>>> live = PlannedDesk(Ticket(0, 5), Ticket(3, 2))
+>>> before = live.walkers
+>>> live.put(Ticket(5, 0))
+>>> before, live.walkers, len(live.plan), Ticket(5, 0) in live, live.needed(Ticket(0, 1), Ticket(0, 1))
+(2, 1, 1, True, 2)
+"""
+
+TABLES = r"""
+>>> from climbtickets.desks import Desk
+>>> from climbtickets.tables import excess_table, plan_table
+>>> from climbtickets.walkers import Planner
+>>> desk = Desk.of_pairs((3, 12), (12, 10))
+>>> plan_table(Planner()(desk)), excess_table(Desk.of_pairs((9, 11), (11, 10)))
+('  1:  3-12 12-10 climb    0', ' 9   +1\n10   +0')
+"""
+
+TEXTS = r"""
+>>> from climbtickets.desks import Desk
+>>> from climbtickets.texts import desk_text
+>>> desk_text(Desk.of_pairs((0, 5), (3, 2)))
+'desk 2\n0 5\n3 2'
+"""
+
+CONSOLE = """
+>>> from climbtickets.console import Console
+>>> console = Console()
+>>> console.run("new"), console.run("put 0 5 3 2"), console.run("walkers"), console.run("ends 0 5"), console.run("reason")
+('ok', 'ok', '2', 'no part', 'island')
+"""
+
 
 def failures_of(text):
     """How many examples of the text were tried, and what did not come out as it says."""
@@ -90,6 +123,18 @@ class ExamplesTest(unittest.TestCase):
 
     def test_listing(self):
         self.assertEqual(failures_of(LISTING), (4, ""))
+
+    def test_live(self):
+        self.assertEqual(failures_of(LIVE), (6, ""))
+
+    def test_tables(self):
+        self.assertEqual(failures_of(TABLES), (5, ""))
+
+    def test_texts(self):
+        self.assertEqual(failures_of(TEXTS), (3, ""))
+
+    def test_console(self):
+        self.assertEqual(failures_of(CONSOLE), (3, ""))
 
 
 if __name__ == "__main__":

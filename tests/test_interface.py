@@ -27,6 +27,10 @@ PROPERTIES = {
     "groups": {
         "Trip": ("start", "row", "end", "climbed"),
     },
+    "live": {
+        "LiveDesk": ("desk", "walkers", "log"),
+        "PlannedDesk": ("plan",),
+    },
 }
 
 METHODS = {
@@ -54,12 +58,21 @@ METHODS = {
     "groups": {
         "Trip": ("__init__", "__len__", "__bool__", "__eq__", "__lt__", "__contains__", "__add__"),
     },
+    "live": {
+        "LiveDesk": ("__init__", "__len__", "__bool__", "__contains__", "__eq__", "put", "take", "needed", "undo",
+                     "desks", "copy"),
+        "PlannedDesk": ("__init__",),
+    },
+    "console": {
+        "Console": ("__init__", "run"),
+    },
 }
 
 CLASS_VALUES = {
     ("tickets", "Ticket", "MAX_HEIGHT"): 30,
     ("desks", "Profile", "GAPS"): 30,
     ("desks", "Desk", "MAX_TICKETS"): 40,
+    ("live", "LiveDesk", "MAX_CHANGES"): 60,
 }
 
 KINDS = {
@@ -93,6 +106,13 @@ SIGNATURES = {
     ("listing", "row_by_rank"): "(desk, rank)",
     ("listing", "rank_of_row"): "(desk, row)",
     ("listing", "least_climb"): "(desk)",
+    ("live", "LiveDesk"): "(*tickets)",
+    ("live", "PlannedDesk"): "(*tickets)",
+    ("tables", "plan_table"): "(plan)",
+    ("tables", "excess_table"): "(desk)",
+    ("texts", "desk_text"): "(desk)",
+    ("texts", "read_desk"): "(text)",
+    ("console", "Console"): "()",
     ("walkers", "Planner", "__call__"): "(self, desk)",
     ("ends", "EndsPlanner", "__call__"): "(self, desk)",
     ("ends", "EndsPlanner", "effort"): "(self, desk)",
@@ -106,6 +126,19 @@ SIGNATURES = {
     ("desks", "Desk", "of_pairs"): "(*pairs)",
     ("desks", "Desk", "is_desk"): "(*tickets)",
     ("plans", "Plan", "is_plan"): "(desk, *rows)",
+    ("live", "LiveDesk", "put"): "(self, *tickets)",
+    ("live", "LiveDesk", "take"): "(self, *tickets)",
+    ("live", "LiveDesk", "needed"): "(self, *tickets)",
+    ("live", "LiveDesk", "undo"): "(self)",
+    ("live", "LiveDesk", "desks"): "(self)",
+    ("live", "LiveDesk", "copy"): "(self)",
+    ("live", "PlannedDesk", "put"): "(self, *tickets)",
+    ("live", "PlannedDesk", "take"): "(self, *tickets)",
+    ("live", "PlannedDesk", "needed"): "(self, *tickets)",
+    ("live", "PlannedDesk", "undo"): "(self)",
+    ("live", "PlannedDesk", "desks"): "(self)",
+    ("live", "PlannedDesk", "copy"): "(self)",
+    ("console", "Console", "run"): "(self, command)",
 }
 
 
@@ -157,12 +190,18 @@ class InterfaceTest(unittest.TestCase):
         self.assertEqual(found("ends", "EndsPlanner").__bases__, (planner,))
         self.assertEqual(found("ends", "RoundPlanner").__bases__, (planner,))
         self.assertEqual(found("groups", "Trip").__bases__, (object,))
+        self.assertEqual(found("live", "LiveDesk").__bases__, (object,))
+        self.assertEqual(found("live", "PlannedDesk").__bases__, (found("live", "LiveDesk"),))
+        self.assertEqual(found("console", "Console").__bases__, (object,))
 
     def test_module_values(self):
         self.assertEqual(found("listing", "MAX_LISTED"), 7)
 
     def test_single_rows_yields(self):
         self.assertTrue(inspect.isgeneratorfunction(found("listing", "single_rows")))
+
+    def test_desks_of_a_live_desk_yields(self):
+        self.assertTrue(inspect.isgeneratorfunction(found("live", "LiveDesk", "desks")))
 
     def test_objects_are_not_iterated_over(self):
         for module, name, member in members(METHODS):
