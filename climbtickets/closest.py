@@ -60,7 +60,7 @@ def joining_steps(marks, steps):
     for step in steps:
         low = last_of(others, marks[step])
         high = last_of(others, marks[step + 1])
-        if low != high and len(used) < wanted:
+        if low != high:
             others[low] = high
             used.append(step)
     return used if len(used) == wanted else None

@@ -4,6 +4,8 @@ from climbtickets.checks import is_position
 from climbtickets.closest import closest_ends
 from climbtickets.ends import EndsPlanner
 from climbtickets.errors import InvalidNumber, InvalidPlan, LimitExceeded, TooFew
+from climbtickets.numbering import Numbering
+from climbtickets.plans import have_tickets_of
 from climbtickets.tickets import Row
 from climbtickets.walkers import fewest, reason_for
 
@@ -12,11 +14,15 @@ MAX_LISTED = 7
 
 def single_rows(desk):
     """All single rows in ascending order."""
-    if len(desk) > MAX_LISTED:
-        raise LimitExceeded(MAX_LISTED)
+    check_limit(desk)
     row = Row()
     tickets = in_order(desk.tickets)
     yield from rows_going_on(row, tickets)
+
+
+def check_limit(desk):
+    if len(desk) > MAX_LISTED:
+        raise LimitExceeded(MAX_LISTED)
 
 
 def in_order(tickets):
@@ -39,26 +45,31 @@ def rows_going_on(row, tickets):
             yield from rows_going_on(longer, others)
 
 
+def numbering_of(desk):
+    check_limit(desk)
+    tickets = in_order(desk.tickets)
+    return Numbering(tickets)
+
+
 def count_rows(desk):
     """The number of single rows."""
-    rows = list(single_rows(desk))
-    return len(rows)
+    return numbering_of(desk).many()
 
 
 def row_by_rank(desk, rank):
     """The single row with this number."""
-    rows = list(single_rows(desk))
-    if not is_position(rank, len(rows)):
+    numbering = numbering_of(desk)
+    if not is_position(rank, numbering.many()):
         raise InvalidNumber(rank)
-    return rows[rank]
+    return numbering.row_at(rank)
 
 
 def rank_of_row(desk, row):
     """The number of this single row."""
-    for rank, each in enumerate(single_rows(desk)):
-        if each == row:
-            return rank
-    raise InvalidPlan("tickets")
+    numbering = numbering_of(desk)
+    if not have_tickets_of(desk, (row,)):
+        raise InvalidPlan("tickets")
+    return numbering.rank_of(row)
 
 
 def least_climb(desk):

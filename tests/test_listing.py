@@ -12,12 +12,19 @@ from climbtickets.listing import count_rows, least_climb, rank_of_row, row_by_ra
 from climbtickets.tickets import Row, Ticket
 from climbtickets.walkers import fewest
 from definitions import HEIGHTS, climb, is_row, number_shown, pairs_of, total_rise
-from drawn import PICKED, balanced, large_desks, small_desks
+from drawn import PICKED, balanced, drawn_pairs, large_desks, small_desks
 from samples import HUGE, STRANGE
 
 # Each one fits behind each other one.
 SEVEN = [(9, height) for height in range(7)]
 
+
+# Desks with 5,040, 5,040 and 720 single rows.
+MANY_ROWS = [
+    [(24 + height, height) for height in range(7)],
+    SEVEN,
+    [(24 + height, height) for height in range(6)],
+]
 
 # Desks whose single rows end far above their beginning.
 FAR_APART = [
@@ -52,6 +59,17 @@ def small_desks_for_rows(seed, many):
     for _ in range(many):
         desks.append([(max(pair), min(pair)) for pair in small_desks(random.random(), 1)[-1]])
     return desks
+
+
+def desks_of_seven(random, many):
+    """Desks of up to seven tickets of few heights, most of which have some single rows."""
+    found = []
+    for _ in range(many):
+        pairs = drawn_pairs(random, random.randint(1, 7), 0, random.choice([1, 2, 4, 8]))
+        if random.random() < 0.7:
+            pairs = [(max(pair), min(pair)) for pair in pairs[1:]] + pairs[:1]
+        found.append([random.choice(pairs) for _ in pairs] if random.random() < 0.3 else pairs)
+    return found
 
 
 def least_difference(desk):
@@ -125,9 +143,49 @@ class SingleRowsTest(unittest.TestCase):
         desk = desk_of(SEVEN[:5])
         rows = list(single_rows(desk))
         self.assertEqual(len(rows), 120)
-        for rank, row in enumerate(rows):
-            self.assertEqual(row_by_rank(desk, rank), row)
-            self.assertEqual(rank_of_row(desk, row), rank)
+        self.assert_numbered(desk, rows, range(120))
+
+    def assert_numbered(self, desk, rows, ranks):
+        """The functions that do not list the rows agree with the list of all rows."""
+        self.assertEqual(count_rows(desk), len(rows))
+        for rank in ranks:
+            self.assertEqual(row_by_rank(desk, rank), rows[rank])
+            self.assertEqual(rank_of_row(desk, rows[rank]), rank)
+        for rank in (-1, len(rows)):
+            with self.assertRaises(InvalidNumber):
+                row_by_rank(desk, rank)
+
+    def test_ranks_of_drawn_desks(self):
+        random = Random("ranks")
+        numbers = set()
+        for pairs in MANY_ROWS + [[(4, 4)] * 7, [(0, 30)] * 7] + desks_of_seven(random, 150):
+            with self.subTest(pairs):
+                desk = desk_of(random.sample(pairs, len(pairs)))
+                rows = list(single_rows(desk))
+                numbers.add(len(rows))
+                ranks = range(len(rows)) if len(rows) <= 40 else random.sample(range(len(rows)), 40) + [0, len(rows) - 1]
+                self.assert_numbered(desk, rows, ranks)
+        self.assertLessEqual({0, 1, 2, 720, 5040}, numbers)
+        self.assertGreater(len(numbers), 30)
+
+    def test_rows_of_equal_tickets(self):
+        desk = desk_of([(9, 2), (9, 1), (9, 2), (9, 1), (9, 1), (4, 4), (12, 12)])
+        rows = list(single_rows(desk))
+        self.assertEqual(len(rows), len(search.rows_with_all(pairs_of(desk))))
+        self.assert_numbered(desk, rows, range(len(rows)))
+
+    def test_many_calls_end_quickly(self):
+        for pairs in MANY_ROWS:
+            desk = desk_of(pairs)
+            last = list(single_rows(desk))[-1]
+            before = perf_counter()
+            for _ in range(25):
+                number = count_rows(desk)
+                self.assertEqual(row_by_rank(desk, 0).tickets[0], min(last.tickets))
+                self.assertEqual(row_by_rank(desk, number - 1), last)
+                self.assertEqual(rank_of_row(desk, last), number - 1)
+            # One hundred calls: all three desks have a second each.
+            self.assertLess(perf_counter() - before, 1)
 
     def test_the_order_of_the_tickets_does_not_matter(self):
         random = Random("order")
